@@ -1,0 +1,1 @@
+"""Stones with a number at each end, laid into the fewest chains."""
