@@ -1,7 +1,7 @@
 """Laying stones in the fewest chains."""
 
 from stonerow.groups import why
-from stonerow.stones import lying
+from stonerow.stones import lies
 
 
 def laid(stones):
@@ -40,7 +40,7 @@ def _walks(stones, free, starts):
     for number in starts:
         if number not in ended:
             walk = _walk(stones, free, number)
-            ended.append(_lies(stones, walk[-1])[1])
+            ended.append(lies(stones, walk[-1])[1])
             walks.append(walk)
     return walks
 
@@ -51,7 +51,7 @@ def _walk(stones, free, number):
     while free[number]:
         step = _taken(stones, free, number)
         walk.append(step)
-        number = _lies(stones, step)[1]
+        number = lies(stones, step)[1]
     return walk
 
 
@@ -70,13 +70,7 @@ def _filled(stones, free, walk):
     at = 0
     # Nothing is let in behind the last stone: a walk ends only where no stone is free.
     while at < len(chain):
-        number = _lies(stones, chain[at])[0]
+        number = lies(stones, chain[at])[0]
         chain[at:at] = _walk(stones, free, number)
         at += 1
     return chain
-
-
-def _lies(stones, step):
-    """Tell the two numbers of the stone of a step, as it lies."""
-    place, turned = step
-    return lying(stones[place], turned)

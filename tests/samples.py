@@ -84,6 +84,36 @@ WRONG = {
 }
 
 
+KINDS = {
+    "None": None,
+    "True": True,
+    "False": False,
+    "0": 0,
+    "7": 7,
+    "-1": -1,
+    "a number with a point": 0.5,
+    "a text": "1-2",
+    "the empty text": "",
+    "bytes": b"ab",
+    "the empty tuple": (),
+    "a tuple": (1, 2),
+    "a tuple of chains": ([(0, 0)],),
+    "the empty dict": {},
+    "a dict": {0: 1},
+    "a set": {1, 2},
+    "a range": range(2),
+    "a function": len,
+    "a class": list,
+    "an object": object(),
+    "a list of None": [None],
+    "a list of numbers": [0, 1],
+    "a list of texts": ["0-1"],
+    "a list of dicts": [{0: 1}],
+    "a list of lists of lists": [[[0, 0]]],
+    "an iterator": iter([[(0, 0)]]),
+}
+
+
 def mixed(many=120):
     """Lists of stones drawn from a fixed seed: each run draws the same ones."""
     draw = random.Random(20261119)
@@ -144,3 +174,17 @@ def assert_laying(case, stones, laying):
         for left, right in zip(chain, chain[1:]):
             case.assertEqual(as_it_lies(stones, left)[1], as_it_lies(stones, right)[0])
     case.assertEqual(sorted(places), list(range(len(stones))))
+
+
+def spoil(told):
+    """Change a list that was told, and all lists in it, in each way a list can be changed."""
+    for part in told:
+        if isinstance(part, list):
+            spoil(part)
+        if isinstance(part, tuple):
+            for inner in part:
+                if isinstance(inner, list):
+                    spoil(inner)
+    told.reverse()
+    told.append("spoilt")
+    del told[:1]

@@ -4,7 +4,7 @@ import unittest
 
 from stonerow.groups import fewest, groups, odd_ends, why
 from stonerow.laying import laid
-from tests.samples import GOOD
+from tests.samples import GOOD, spoil
 
 
 def all_odd_ends(stones):
@@ -12,20 +12,6 @@ def all_odd_ends(stones):
 
 
 TOLD = [groups, all_odd_ends, why, laid]
-
-
-def spoil(told):
-    """Change a list that was told, and all lists in it, in each way a list can be changed."""
-    for part in told:
-        if isinstance(part, list):
-            spoil(part)
-        if isinstance(part, tuple):
-            for inner in part:
-                if isinstance(inner, list):
-                    spoil(inner)
-    told.reverse()
-    told.append("spoilt")
-    del told[:1]
 
 
 class Lists(unittest.TestCase):
